@@ -1,0 +1,1 @@
+"""Granary: a store whole in small, asked by texts, kept through falls and takeovers."""
