@@ -6,7 +6,7 @@ from granary.words import Words, read_name, read_number
 from granary.writing import tree_text
 
 ASKS = ("pick", "count", "sum", "least", "most")
-ENDS_OF_DEALINGS = ("begin", "done", "undo")
+DEALING_WORDS = ("begin", "done", "undo")
 MOST_FIELDS = 4
 MOST_SETTINGS = 3
 MOST_TERMS = 6
@@ -27,7 +27,7 @@ def read_statement(words):
     word = words.ahead()
     if word in ASKS:
         return read_ask(words)
-    if word in ENDS_OF_DEALINGS:
+    if word in DEALING_WORDS:
         return (words.take(),)
     if word not in READERS:
         raise BadText(place=words.place)
