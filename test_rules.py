@@ -19,6 +19,11 @@ INTERFACE = {
     "plans": ("all_plans", "cost", "best"),
     "doing": ("answer", "answer_by"),
     "statements": ("done_on",),
+    "planning": ("plan_text", "read_plan"),
+    "sights": ("is_in", "is_wider"),
+    "indexes": ("Index",),
+    "dealings": ("Dealing",),
+    "versions": ("Store",),
 }
 ARGUMENTS = {
     "texts": {"read": "text", "written": "tree"},
@@ -30,6 +35,25 @@ ARGUMENTS = {
     },
     "doing": {"answer": "tree, plan, shapes, view", "answer_by": "tree, plan, shapes, indexes, view"},
     "statements": {"done_on": "tree, dealing"},
+    "planning": {"plan_text": "plan", "read_plan": "text"},
+    "sights": {"is_in": "row, fields, bounds", "is_wider": "one, other"},
+}
+METHODS = {
+    ("indexes", "Index"): {
+        "__init__": "self", "add": "self, worth, key", "lose": "self, worth, key", "between": "self, low, high",
+    },
+    ("dealings", "Dealing"): {
+        "row": "self, table, key", "version": "self, table, key", "rows": "self, table",
+        "by_key": "self, table, low, high", "by_index": "self, table, field, low, high", "indexed": "self",
+        "seen": "self", "count": "self, table", "shapes": "self", "writes": "self", "put": "self, table, row",
+        "change": "self, table, row", "strike": "self, table, key", "make": "self, write",
+        "saw": "self, table, bounds", "end": "self",
+    },
+    ("versions", "Store"): {
+        "__init__": "self, *, first=0", "take": "self, number, writes", "shapes": "self, number",
+        "indexed": "self, number", "row": "self, table, key, number", "version": "self, table, key, number",
+        "opened": "self, *, number=None",
+    },
 }
 LIBRARY = {
     "heapq": ("heappush", "heappop", "heapify", "heapreplace", "heappushpop"),
@@ -180,6 +204,48 @@ class Interface(unittest.TestCase):
             found = {node.name: ast.unparse(node.args) for node in here}
             for name, arguments in functions.items():
                 self.assertEqual(found[name], arguments)
+
+    def test_methods_stand_in_the_class_itself(self):
+        for (stem, name), methods in METHODS.items():
+            own = [node for node in TREES[stem].body if isinstance(node, ast.ClassDef) and node.name == name]
+            found = {node.name: ast.unparse(node.args) for node in own[0].body if isinstance(node, ast.FunctionDef)}
+            for method, arguments in methods.items():
+                self.assertEqual(found[method], arguments, (name, method))
+
+
+class Classes(unittest.TestCase):
+    def test_no_name_is_a_method_and_an_attribute_of_one_class(self):
+        for stem, tree in TREES.items():
+            for node in tree.body:
+                if isinstance(node, ast.ClassDef):
+                    methods = {part.name for part in node.body if isinstance(part, ast.FunctionDef)}
+                    stored = {part.attr for part in ast.walk(node)
+                              if isinstance(part, ast.Attribute) and isinstance(part.ctx, ast.Store)}
+                    self.assertFalse(methods & stored, (stem, node.name))
+
+    def test_attributes_have_no_name_of_what_modifies(self):
+        barred = ("items keys values pop update append clear extend insert remove reverse setdefault sort args encode "
+                  "decode hex fromhex format").split()
+        for stem, tree in TREES.items():
+            for node in ast.walk(tree):
+                if isinstance(node, ast.Attribute) and isinstance(node.ctx, ast.Store):
+                    self.assertNotIn(node.attr, barred, stem)
+
+    def test_stars_stand_over_names(self):
+        for stem, tree in TREES.items():
+            for node in ast.walk(tree):
+                if isinstance(node, ast.Starred) and isinstance(node.ctx, ast.Load):
+                    self.assertIsInstance(node.value, ast.Name, stem)
+                if isinstance(node, ast.Dict):
+                    self.assertNotIn(None, node.keys, stem)
+
+    def test_no_keywords_for_methods_of_builtin_values(self):
+        own = {part.name for tree in TREES.values() for node in tree.body if isinstance(node, ast.ClassDef)
+               for part in node.body if isinstance(part, ast.FunctionDef)}
+        for stem, tree in TREES.items():
+            for node in ast.walk(tree):
+                if isinstance(node, ast.Call) and isinstance(node.func, ast.Attribute) and node.keywords:
+                    self.assertIn(node.func.attr, own, stem)
 
 
 if __name__ == "__main__":

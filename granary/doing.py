@@ -102,5 +102,5 @@ def flat_plan(plan):
 def flat_way(way):
     """A way with a text in the place of its term, if it has one."""
     if way[0] in ("keyof", "byof"):
-        return (*way[:-1], tree_text(way[-1]))
-    return tuple(way)
+        return way[:-1] + (tree_text(way[-1]),)
+    return way

@@ -9,7 +9,7 @@ from granary.trees import JOINING
 def all_plans(tables, cond, shapes, indexes):
     """All plans of tables and a condition."""
     plans = []
-    for order in permutations(list(tables)):
+    for order in permutations(tables):
         plans.extend(plans_in_order(order, cond, shapes, indexes))
     return plans
 
@@ -32,8 +32,9 @@ def ways_of(table, ahead, cond, shapes, indexes):
     indexed = [field for field in shapes[table][1:] if (table, field) in indexes]
     ways = [("all", table)]
     if key in told:
-        ways.append(("key", table, *told[key]))
-    ways += [("by", table, field, *told[field]) for field in indexed if field in told]
+        least, greatest = told[key]
+        ways.append(("key", table, least, greatest))
+    ways += [("by", table, field, told[field][0], told[field][1]) for field in indexed if field in told]
     for sign, left, right in musts(cond):
         if sign == "=" and is_way(left, right, table, ahead, [key, *indexed]):
             ways.append(way_of(left, right, key))

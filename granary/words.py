@@ -105,19 +105,20 @@ class Words:
             raise BadText(place=self.place)
         return self.take()
 
-    def take_plain_number(self):
-        """Takes a number that has no - ahead."""
-        if not is_number(self.ahead()):
+    def take_plain_number(self, *, beyond=None):
+        """Takes a number that has no - ahead; beyond is a word more that may be one."""
+        word = self.ahead()
+        if word != beyond and not is_number(word):
             raise BadText(place=self.place)
         return int(self.take())
 
-    def take_number(self):
-        """Takes a number, perhaps with - ahead."""
+    def take_number(self, *, above=None, below=None):
+        """Takes a number, perhaps with - ahead; above is a word more that may be one, below one behind a -."""
         if not self.passes("-"):
-            return self.take_plain_number()
+            return self.take_plain_number(beyond=above)
         if self.ahead() == "0":
             raise BadText(place=self.place)
-        return -self.take_plain_number()
+        return -self.take_plain_number(beyond=below)
 
     def enter(self):
         """Takes a bracket or a not, within which what follows stands."""
