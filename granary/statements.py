@@ -72,9 +72,9 @@ def met_rows(tree, plan, dealing):
 
 def set_rows(tree, plan, dealing):
     """Sets fields of all rows that fulfil the condition, all at once, and tells how many rows."""
-    _, table, settings, _ = tree
+    table = tree[1]
     places = field_places((table,), dealing.shapes())
-    changed = [changed_row(row, table, settings, places) for row in met_rows(tree, plan, dealing)]
+    changed = [changed_row(row, table, tree[2], places) for row in met_rows(tree, plan, dealing)]
     for row in changed:
         dealing.change(table, row)
     return len(changed)
