@@ -23,7 +23,14 @@ INTERFACE = {
     "sights": ("is_in", "is_wider"),
     "indexes": ("Index",),
     "dealings": ("Dealing",),
-    "versions": ("Store",),
+    "versions": ("Store", "based"),
+    "papers": ("followed",),
+    "days": ("day_text", "read_day", "played"),
+    "disks": ("Disk",),
+    "logs": ("Log", "recovered"),
+    "plain": ("Plain", "plain_of"),
+    "judging": ("judged", "order_of"),
+    "halls": ("Hall",),
 }
 ARGUMENTS = {
     "texts": {"read": "text", "written": "tree"},
@@ -37,6 +44,12 @@ ARGUMENTS = {
     "statements": {"done_on": "tree, dealing"},
     "planning": {"plan_text": "plan", "read_plan": "text"},
     "sights": {"is_in": "row, fields, bounds", "is_wider": "one, other"},
+    "papers": {"followed": "paper, content"},
+    "days": {"day_text": "deeds", "read_day": "text", "played": "text, *, houses=3, askers=4"},
+    "versions": {"based": "number, content"},
+    "logs": {"recovered": "disk"},
+    "plain": {"plain_of": "texts"},
+    "judging": {"judged": "histories, tickets", "order_of": "histories"},
 }
 METHODS = {
     ("indexes", "Index"): {
@@ -51,8 +64,29 @@ METHODS = {
     },
     ("versions", "Store"): {
         "__init__": "self, *, first=0", "take": "self, number, writes", "shapes": "self, number",
-        "indexed": "self, number", "row": "self, table, key, number", "version": "self, table, key, number",
-        "opened": "self, *, number=None",
+        "indexed": "self, number", "keys": "self, table", "row": "self, table, key, number",
+        "version": "self, table, key, number", "content": "self, number", "opened": "self, *, number=None",
+        "clash": "self, dealing", "sweep": "self, number", "versions": "self",
+    },
+    ("disks", "Disk"): {
+        "__init__": "self", "write": "self, unit", "settle": "self", "arm": "self, many", "fall": "self, cut",
+        "units": "self",
+    },
+    ("logs", "Log"): {
+        "__init__": "self, disk", "mark": "self, term, vote", "append": "self, record", "cut": "self, number",
+        "take_whole": "self, number, term, content", "term": "self", "last": "self", "base": "self",
+        "checkpoint": "self, number", "vote": "self", "term_of": "self, number", "has": "self, number",
+        "records": "self, begin", "content": "self", "store": "self, *, number=None",
+    },
+    ("plain", "Plain"): {"__init__": "self", "tell": "self, text", "copy": "self"},
+    ("halls", "Hall"): {
+        "__init__": "self, *, houses=3, askers=4", "ask": "self, asker, text", "known": "self, house",
+        "shown": "self, ticket", "paper": "self, ticket", "content": "self, house, number", "shaped": "self, house",
+        "underway": "self, asker", "found": "self, ticket", "house_of": "self, asker", "count_tickets": "self",
+        "turn": "self, asker, house", "arm": "self, house, many", "come": "self, at=0", "lose": "self, at=0",
+        "takeover": "self, house", "beat": "self, house", "checkpoint": "self, house", "fall": "self, house",
+        "rise": "self, house, *, cut=0", "letters": "self", "dealings": "self, asker", "log": "self, house",
+        "leaders": "self", "compared": "self, house, text", "past": "self, house, table, key",
     },
 }
 LIBRARY = {
@@ -191,26 +225,59 @@ class Names(unittest.TestCase):
                         self.assertNotIn("%", node.value, stem)
 
 
+def own_parts(body, kind):
+    """{name: node} of what stands in a body itself, of some kind of definition."""
+    return {node.name: node for node in body if isinstance(node, kind)}
+
+
+def lacking(trees):
+    """The names of the interface, of the files that are written, that aren't defined where it lists them."""
+    names = []
+    for stem in set(INTERFACE) & set(trees):
+        here = own_parts(trees[stem].body, (ast.FunctionDef, ast.ClassDef))
+        names += [f"{stem}.{name}" for name in INTERFACE[stem] if name not in here]
+    for stem, name in METHODS:
+        if stem in trees:
+            own = own_parts(trees[stem].body, ast.ClassDef).get(name)
+            here = own_parts(own.body if own else [], ast.FunctionDef)
+            names += [f"{stem}.{name}.{method}" for method in METHODS[stem, name] if method not in here]
+    return sorted(names)
+
+
 class Interface(unittest.TestCase):
-    def test_each_name_is_defined_in_its_file(self):
-        for stem, names in INTERFACE.items():
-            here = [node.name for node in TREES[stem].body if isinstance(node, (ast.FunctionDef, ast.ClassDef))]
-            for name in names:
-                self.assertIn(name, here)
+    def test_each_file_is_written(self):
+        self.assertEqual(sorted(set(INTERFACE) - set(TREES)), [])
+
+    def test_each_name_is_defined_in_its_file_and_each_method_in_its_class(self):
+        self.assertEqual(lacking(TREES), [], "lacks where the interface lists it")
+
+    def test_a_name_that_is_defined_elsewhere_is_told(self):
+        text = (FOLDER / "versions.py").read_text("ascii")
+        imported_one = text.replace("def based(", "def other(") + "\nfrom granary.tables import based\n"
+        self.assertEqual(lacking({"versions": ast.parse(imported_one)}), ["versions.based"])
+        renamed = text.replace("class Store:", "class Base:") + "\n\nclass Store(Base):\n    pass\n"
+        listed = sorted(f"versions.Store.{method}" for method in METHODS["versions", "Store"])
+        self.assertEqual(lacking({"versions": ast.parse(renamed)}), listed)
+        for method in METHODS["versions", "Store"]:
+            one = text.replace(f"    def {method}(", "    def other(")
+            self.assertEqual(lacking({"versions": ast.parse(one)}), [f"versions.Store.{method}"])
 
     def test_arguments(self):
         for stem, functions in ARGUMENTS.items():
-            here = [node for node in TREES[stem].body if isinstance(node, ast.FunctionDef)]
-            found = {node.name: ast.unparse(node.args) for node in here}
+            here = own_parts(TREES[stem].body, ast.FunctionDef)
             for name, arguments in functions.items():
-                self.assertEqual(found[name], arguments)
+                self.assertEqual(ast.unparse(here[name].args), arguments, (stem, name))
 
-    def test_methods_stand_in_the_class_itself(self):
+    def test_arguments_of_methods(self):
         for (stem, name), methods in METHODS.items():
-            own = [node for node in TREES[stem].body if isinstance(node, ast.ClassDef) and node.name == name]
-            found = {node.name: ast.unparse(node.args) for node in own[0].body if isinstance(node, ast.FunctionDef)}
+            here = own_parts(own_parts(TREES[stem].body, ast.ClassDef)[name].body, ast.FunctionDef)
             for method, arguments in methods.items():
-                self.assertEqual(found[method], arguments, (name, method))
+                self.assertEqual(ast.unparse(here[method].args), arguments, (name, method))
+
+    def test_values_of_a_store_are_set_when_it_is_created(self):
+        made = own_parts(own_parts(TREES["versions"].body, ast.ClassDef)["Store"].body, ast.FunctionDef)["__init__"]
+        stored = [node.attr for node in ast.walk(made) if isinstance(node, ast.Attribute)]
+        self.assertLessEqual({"first", "newest"}, set(stored))
 
 
 class Classes(unittest.TestCase):

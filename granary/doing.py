@@ -10,7 +10,7 @@ from granary.writing import tree_text
 class Walk:
     """Going the ways of a plan, through a view; found are the choices that fulfil a condition.
 
-    A choice is a dict of one row of each table.
+    A choice is a dict of one row of each table; told counts the rows that all ways told, as often as they were gone.
     """
 
     def __init__(self, plan, condition, places, view):
@@ -19,6 +19,7 @@ class Walk:
         self.places = places
         self.view = view
         self.found = []
+        self.told = 0
 
     def go(self, rows):
         """Goes on behind the rows that are chosen already, one for each way that is gone."""
@@ -27,7 +28,9 @@ class Walk:
                 self.found.append(rows)
             return
         way = self.plan[len(rows)]
-        for row in self.come(way, rows):
+        came = self.come(way, rows)
+        self.told += len(came)
+        for row in came:
             chosen = dict(rows)
             chosen[way[1]] = row
             self.go(chosen)

@@ -2,6 +2,7 @@
 
 from granary.finding import place_in
 from granary.indexes import Index
+from granary.sights import is_in
 
 
 class Table:
@@ -52,11 +53,15 @@ class Table:
             return (None, None)
         return chain[at - 1]
 
-    def between(self, low, high, number):
-        """The rows at a moment with keys from one on up to another, None for no bound, rising."""
+    def _keys_between(self, low, high):
+        """The keys from one on up to another, None for no bound, rising."""
         begin = 0 if low is None else place_in(self.rising, low)
         end = len(self.rising) if high is None else place_in(self.rising, high + 1)
-        rows = [self.version(key, number)[1] for key in self.rising[begin:end]]
+        return self.rising[begin:end]
+
+    def between(self, low, high, number):
+        """The rows at a moment with keys from one on up to another, None for no bound, rising."""
+        rows = [self.version(key, number)[1] for key in self._keys_between(low, high)]
         return [row for row in rows if row is not None]
 
     def by_index(self, field, low, high, number):
@@ -69,3 +74,43 @@ class Table:
             if row is not None and row[at] == worth:
                 rows.append(row)
         return rows
+
+    def made_behind(self, number):
+        """The numbers of the records behind a moment that made the table, or its indexes."""
+        return [made for made in [self.number] + list(self.made.values()) if made > number]
+
+    def written_behind(self, number, bounds):
+        """The numbers of the records behind a moment that wrote a row that was, or is then, within bounds."""
+        low, high = bounds.get(self.fields[0], (None, None))
+        found = []
+        for key in self._keys_between(low, high):
+            before = None
+            for made, row in self.chains[key]:
+                if made > number and (is_in(before, self.fields, bounds) or is_in(row, self.fields, bounds)):
+                    found.append(made)
+                before = row
+        return found
+
+    def sweep(self, number):
+        """Keeps of each key's versions the row that a moment shows, and all later ones."""
+        for key in list(self.rising):
+            self._sweep_key(key, number)
+        self.rising = [key for key in self.rising if key in self.chains]
+
+    def _sweep_key(self, key, number):
+        """Keeps of one key's versions the row that a moment shows, and all later ones."""
+        chain = self.chains[key]
+        begin = place_in(chain, (number + 1,))
+        if begin > 0 and chain[begin - 1][1] is not None:
+            begin -= 1
+        for _, row in chain[:begin]:
+            self._lose(key, row)
+        self.chains[key] = chain[begin:]
+        if self.chains[key] == []:
+            del self.chains[key]
+
+    def _lose(self, key, row):
+        """Takes a version's row, or None, out of all indexes."""
+        if row is not None:
+            for field, index in self.indexes.items():
+                index.lose(row[self.fields.index(field)], key)
