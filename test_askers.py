@@ -153,6 +153,35 @@ class Telling(unittest.TestCase):
         self.assertEqual(hall.ask(0, "done"), ("waits", 11, 0))
 
 
+    def test_a_dealing_goes_on_where_its_house_leads_again_in_its_term(self):
+        """Its house fell and rose, a late let lets it lead again; its log has pages behind the dealing's moment."""
+        for last, told in (("count from t", ("clash",)), ("count from u", ("waits", 4, 0))):
+            hall = Hall()
+            hall.takeover(0)
+            come(hall, "ask")
+            hall.come()
+            self.come_but_lets(hall)
+            self.assertEqual(hall.leaders(), [0])
+            ask(hall, "table t k", "table u k", "put t 1", "begin", last)
+            hall.ask(1, "put t 2")
+            self.come_but_lets(hall)
+            hall.checkpoint(0)
+            self.assertEqual(hall.known(0), (1, 5, 5, 5))
+            hall.fall(0)
+            hall.rise(0)
+            self.assertEqual(hall.letters(), [("let", 2, 0, 1)])
+            hall.come()
+            self.assertEqual((hall.leaders(), hall.known(0)), ([0], (1, 5, 6, 5)))
+            self.assertEqual(hall.ask(0, "pick k from t where 1 = 2"), ("told", []))
+            self.assertEqual(hall.ask(0, "done"), told)
+            self.assertEqual(hall.ask(0, "count from t")[2], 2)
+
+    def come_but_lets(self, hall):
+        """Lets all come but lets."""
+        while come(hall, "send") + come(hall, "have"):
+            pass
+
+
 class Refusing(unittest.TestCase):
     def test_each_word_outside(self):
         hall = begun()
@@ -492,6 +521,15 @@ class Past(unittest.TestCase):
         self.assertEqual(hall.past(0, "t", 2), [(4, (2, 20)), (7, (2, 30)), (8, None), (9, (2, 5))])
         self.assertEqual((hall.past(0, "t", 1), hall.past(0, "u", 2)), ([(4, (1, 10))], [(10, (2, 2))]))
         self.assertEqual((hall.past(0, "t", 99), hall.past(0, "u", 1)), ([], []))
+
+    def test_a_key_of_another_table(self):
+        hall = begun()
+        ask(hall, "put u 2 3")
+        settle(hall)
+        hall.checkpoint(0)
+        self.assertEqual((hall.past(0, "t", 2), hall.past(0, "u", 2)), ([(7, (2, 20))], [(7, (2, 3))]))
+        ask(hall, "put t 5 3")
+        self.assertEqual((hall.past(0, "t", 5), hall.past(0, "u", 5)), ([(8, (5, 3))], [(7, (5, 10))]))
 
     def test_behind_pages(self):
         hall = begun()

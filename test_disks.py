@@ -61,6 +61,14 @@ class Falling(unittest.TestCase):
         made.fall(0)
         self.assertEqual(made.units(), ["a", "b", "e"])
 
+    def test_where_nothing_was_settled(self):
+        for cut in (0, 1, 2):
+            made = Disk()
+            made.write("a")
+            made.write("b")
+            made.fall(cut)
+            self.assertEqual(made.units(), ["a", "b"][:cut])
+
     def test_of_nothing(self):
         made = Disk()
         made.fall(0)

@@ -2,8 +2,11 @@
 
 import unittest
 
+from granary.askers import Asker, Draft
 from granary.errors import BadNumber, StoreError
 from granary.halls import Hall
+from granary.houses import House
+from granary.versions import Store
 from posting import ask, come, led, lose, places, settle, take_over
 
 LEADER = (-1, -1)
@@ -22,7 +25,10 @@ class Halls(unittest.TestCase):
             with self.assertRaises(BadNumber):
                 hall.house_of(askers)
         self.assertEqual(len(set(Hall().known(house) for house in range(3))), 1)
-        Hall().house_of(3)
+        self.assertEqual((Hall().house_of(3), Hall().known(2)), (0, (0, 0, 0, 0)))
+        for ask_it in (Hall().known, Hall().house_of):
+            with self.assertRaises(BadNumber):
+                ask_it(3 if ask_it.__name__ == "known" else 4)
 
     def test_too_few_or_too_many(self):
         for houses in (0, 6, -1):
@@ -432,6 +438,32 @@ class Sending(unittest.TestCase):
             come(hall, "lack")
         come(hall, "send", 1, 0)
         self.assertEqual((hall.letters(), hall.log(0)), ([("have", 0, 1, 3)], hall.log(1)))
+
+    def test_lack_that_comes_twice_over(self):
+        """It goes back by one more each time, not below the first record; pages are sent where the log begins behind."""
+        for base in (0, 1):
+            hall = led()
+            hall.beat(0)
+            settle(hall)
+            if base:
+                hall.checkpoint(1)
+            ask(hall, "table t k", "put t 1")
+            lose(hall, to=2)
+            settle(hall)
+            take_over(hall, 1)
+            for _ in range(3):
+                hall.beat(1)
+            lose(hall, to=0)
+            come(hall, "send", 1, 2)
+            lose(hall, to=0)
+            self.assertEqual(hall.letters(), [("lack", 2, 1, 2)] * 4)
+            told = []
+            while places(hall, "lack"):
+                hall.come(places(hall, "lack")[0])
+                told.append(hall.letters()[-1][0])
+            self.assertEqual(told, ["send", "whole", "whole", "whole"] if base else ["send"] * 4)
+            settle(hall)
+            self.assertEqual(hall.log(2)[-1], (2, 4, *LEADER))
 
     def test_records_that_are_the_same_stay(self):
         hall = led()
@@ -894,6 +926,31 @@ class Falls(unittest.TestCase):
         self.assertEqual((hall.leaders(), hall.log(0)), ([0], [(1, 1, *LEADER), (1, 2, *LEADER)]))
         settle(hall)
         self.assertEqual([hall.log(house) for house in range(3)], [hall.log(0)] * 3)
+
+
+class Stores(unittest.TestCase):
+    """What a house keeps for dealings, which no letter tells."""
+
+    def test_a_leader_s_store_is_swept_with_its_pages(self):
+        house = House(0, 1, [], {})
+        house.take_over()
+        for number in range(2, 6):
+            house.append_deal(0, number, (("table", "t", ("k",)),) if number == 2 else (("row", "t", 1, (1,)),))
+        dealing = house.store.opened(number=3)
+        house.make_pages()
+        self.assertEqual((house.store.first, house.store.newest, house.log.base()), (3, 5, 5))
+        dealing.end()
+        house.make_pages()
+        self.assertEqual((house.store.first, house.store.versions()), (5, 1))
+
+    def test_a_dropped_dealing_is_open_no_more(self):
+        store = Store()
+        asker = Asker(0)
+        asker.drop()
+        asker.draft = Draft(store.opened(), 1)
+        self.assertEqual(store.eldest(), 0)
+        asker.drop()
+        self.assertEqual((store.eldest(), asker.draft), (None, None))
 
 
 if __name__ == "__main__":

@@ -180,7 +180,7 @@ class Checkpoint(unittest.TestCase):
                 self.assertEqual(made.term_of(at), whole.term_of(at) if number <= at else None)
                 if made.has(at):
                     self.assertEqual(made.store(number=at).content(at), whole.store().content(at))
-                    self.assertEqual(made.store(number=at).first, number)
+                    self.assertEqual((made.store(number=at).first, made.store(number=at).newest), (number, at))
         self.assertEqual((made.term(), made.vote()), (4, 1))
 
     def test_of_the_base_again(self):

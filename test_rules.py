@@ -306,6 +306,61 @@ class Classes(unittest.TestCase):
                 if isinstance(node, ast.Dict):
                     self.assertNotIn(None, node.keys, stem)
 
+    def test_nothing_that_a_method_called_keys_stands_in_the_way_of(self):
+        for stem, tree in TREES.items():
+            for node in ast.walk(tree):
+                if isinstance(node, ast.Call):
+                    self.assertNotIn(None, [keyword.arg for keyword in node.keywords], stem)
+                    if isinstance(node.func, ast.Attribute):
+                        self.assertNotEqual(node.func.attr, "keys", stem)
+
+    def test_no_set_is_kept_in_an_attribute_or_iterated(self):
+        for stem, tree in TREES.items():
+            for node in ast.walk(tree):
+                self.assertNotIsInstance(node, (ast.Set, ast.SetComp), stem)
+                if isinstance(node, ast.Name):
+                    self.assertNotIn(node.id, ("set", "frozenset"), stem)
+
+    def test_errors_are_made_where_they_are_raised_and_caught_by_name(self):
+        own = INTERFACE["errors"]
+        for stem, tree in TREES.items():
+            for node in ast.walk(tree):
+                if isinstance(node, ast.Raise):
+                    self.assertIn(node.exc.func.id, own, stem)
+                if isinstance(node, ast.ExceptHandler):
+                    self.assertIn(node.type.id, own, stem)
+
+    def test_no_generators_no_decorators_no_annotations(self):
+        barred = (ast.Yield, ast.YieldFrom, ast.GeneratorExp, ast.AnnAssign, ast.Nonlocal, ast.With, ast.NamedExpr)
+        for stem, tree in TREES.items():
+            for node in ast.walk(tree):
+                self.assertNotIsInstance(node, barred, stem)
+                if isinstance(node, (ast.FunctionDef, ast.ClassDef)):
+                    self.assertEqual(node.decorator_list, [], stem)
+                if isinstance(node, ast.FunctionDef):
+                    self.assertIsNone(node.returns, stem)
+
+    def test_methods_of_builtin_values(self):
+        own = {part.name for tree in TREES.values() for node in ast.walk(tree) if isinstance(node, ast.ClassDef)
+               for part in node.body if isinstance(part, ast.FunctionDef)}
+        known = ("append clear copy count endswith extend find get index insert isalnum isalpha isdigit islower isspace "
+                 "isupper items join ljust lower lstrip partition pop remove replace reverse rfind rjust rpartition "
+                 "rsplit rstrip setdefault split splitlines startswith strip update upper values zfill").split()
+        for stem, tree in TREES.items():
+            for node in ast.walk(tree):
+                if isinstance(node, ast.Call) and isinstance(node.func, ast.Attribute):
+                    self.assertTrue(node.func.attr in own or node.func.attr in known, (stem, node.func.attr))
+
+    def test_views_are_iterated_on_the_spot(self):
+        views = ("items", "values")
+        for stem, tree in TREES.items():
+            spots = [node.iter for node in ast.walk(tree) if isinstance(node, (ast.For, ast.comprehension))]
+            spots += [part for node in ast.walk(tree) if isinstance(node, ast.Call) and isinstance(node.func, ast.Name)
+                      and node.func.id in ("list", "tuple", "sorted", "sum", "enumerate", "zip") for part in node.args]
+            for node in ast.walk(tree):
+                if isinstance(node, ast.Call) and isinstance(node.func, ast.Attribute) and node.func.attr in views:
+                    self.assertIn(node, spots, (stem, node.lineno))
+
     def test_no_keywords_for_methods_of_builtin_values(self):
         own = {part.name for tree in TREES.values() for node in tree.body if isinstance(node, ast.ClassDef)
                for part in node.body if isinstance(part, ast.FunctionDef)}

@@ -6,6 +6,7 @@ import unittest
 
 from granary.errors import BadNumber, BadPlan
 from granary.sights import is_in
+from granary.tables import Table
 from granary.versions import Store, based
 
 RECORDS = (
@@ -253,6 +254,27 @@ class Sweeping(unittest.TestCase):
         self.assertEqual(made.opened(number=6).by_index("t", "a", 10, 30), [(7, 10), (-2, 20), (3, 30)])
         made.sweep(7)
         self.assertEqual(made.opened().by_index("t", "a", 11, None), [(-2, 20)])
+
+    def test_an_index_has_no_pairs_of_versions_that_are_not_kept(self):
+        made = Table(1, ("k", "a"))
+        made.make_index(1, "a")
+        for number, row in enumerate(((5, 1), (5, 2), None, (5, 3), (5, 2)), 1):
+            made.lay(number, 5, row)
+        made.lay(6, 7, (7, 2))
+        for number, pairs in ((1, [(1, 5), (2, 5), (2, 7), (3, 5)]), (2, [(2, 5), (2, 7), (3, 5)]),
+                              (4, [(2, 5), (2, 7), (3, 5)]), (5, [(2, 5), (2, 7)]), (9, [(2, 5), (2, 7)])):
+            made.sweep(number)
+            self.assertEqual(made.indexes["a"].between(None, None), pairs)
+
+    def test_a_dealing_that_ended_sees_no_moment_that_is_not_any_more(self):
+        made = store()
+        dealing = made.opened(number=2)
+        dealing.end()
+        made.sweep(3)
+        for ask in (lambda: dealing.rows("t"), lambda: dealing.row("t", 3), dealing.shapes, dealing.indexed,
+                    lambda: dealing.by_key("t", 1, 2), lambda: dealing.by_index("t", "a", 1, 2)):
+            with self.assertRaises(BadNumber):
+                ask()
 
     def test_an_index_that_is_made_behind_a_sweep(self):
         made = store()

@@ -59,8 +59,7 @@ class Draft:
 class Ticket:
     """A dealing that became a record, or whose house fell amid that: where, and of which term and number."""
 
-    def __init__(self, asker, house, term, number, paper):
-        self.asker = asker
+    def __init__(self, house, term, number, paper):
         self.house = house
         self.term = term
         self.number = number

@@ -9,16 +9,8 @@ from granary.texts import read
 from granary.worths import field_places
 
 
-def compared_plans(text, store):
+def compared_plans(text, view):
     """(text, cost, how many rows its ways tell, how many choices it comes to) of all plans of a question's text."""
-    view = store.opened()
-    told = plans_told(text, view)
-    view.end()
-    return told
-
-
-def plans_told(text, view):
-    """What compared_plans tells, through a dealing."""
     shapes = view.shapes()
     indexes = view.indexed()
     tree = checked(read(text), shapes, indexes)

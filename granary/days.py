@@ -2,8 +2,8 @@
 
 from granary.errors import BadText
 from granary.halls import Hall
+from granary.words import FIGURES
 
-FIGURES = "0123456789"
 LONGEST_NUMBER = 3
 # How many numbers each deed has, but ask, which has a text behind its number.
 NUMBERS = {

@@ -57,7 +57,7 @@ class Hall:
             return ("clash",)
         number = len(self._tickets)
         paper = draft.paper()
-        self._tickets.append(Ticket(asker.number, house.number, draft.term, house.log.last() + 1, paper))
+        self._tickets.append(Ticket(house.number, draft.term, house.log.last() + 1, paper))
         asker.tickets.append(number)
         try:
             house.append_deal(asker.number, number, paper[3])
@@ -102,7 +102,7 @@ class Hall:
     def shown(self, ticket):
         """(texts, answers, house, term, number, the houses in whose logs its record stands) of a ticket."""
         one = self._ticket(ticket)
-        houses = [house.number for house in self._houses if has_deal(house.log, one.number, ticket)]
+        houses = [house.number for house in self._houses if has_deal(house.log, ticket)]
         return (one.texts(), one.answers(), one.house, one.term, one.number, houses)
 
     def paper(self, ticket):
@@ -208,7 +208,7 @@ class Hall:
 
     def compared(self, house, text):
         """(text, cost, rows told, choices) of all plans of a question, of the rows as a house's log stands."""
-        return compared_plans(text, self._house(house).log.store())
+        return compared_plans(text, self._house(house).log.store().opened())
 
     def past(self, house, table, key):
         """(number, row or None) of all that a house's log tells of a key, rising."""
@@ -222,6 +222,6 @@ def one_of(things, number):
     return things[number]
 
 
-def has_deal(log, number, ticket):
-    """Whether a log has, behind its pages, the record of a ticket at a number."""
-    return any([record[2] == number and record[4] == ticket for record in log.records(number)])
+def has_deal(log, ticket):
+    """Whether a log has, behind its pages, the record of a ticket."""
+    return any([record[4] == ticket for record in log.records(log.base() + 1)])

@@ -35,7 +35,7 @@ class House:
         """The numbers of all other houses."""
         return [number for number in range(self.many) if number != self.number]
 
-    def send(self, what, to, told):
+    def mail(self, what, to, told):
         """Lets a letter of its term go under way."""
         self.post.append((what, self.number, to, self.log.term(), told))
 
@@ -46,7 +46,7 @@ class House:
         self.lets = {}
         last = self.log.last()
         for number in self.others():
-            self.send("ask", number, (self.log.term_of(last), last))
+            self.mail("ask", number, (self.log.term_of(last), last))
         self.let_by(self.number)
 
     def let_by(self, number):
@@ -91,10 +91,10 @@ class House:
         """Sends a house what it's taken to lack, or the last pages, if some of that is in them alone."""
         lacks = self.lacks[house]
         if lacks <= self.log.base():
-            self.send("whole", house, self.log.content())
+            self.mail("whole", house, self.log.content())
             return
         ahead = lacks - 1
-        self.send("send", house, (ahead, self.log.term_of(ahead), tuple(self.log.records(lacks)), self.known))
+        self.mail("send", house, (ahead, self.log.term_of(ahead), tuple(self.log.records(lacks)), self.known))
 
     def take_letter(self, letter):
         """Does what a letter asks for."""
@@ -130,7 +130,7 @@ class House:
             return
         if self.log.vote() is None:
             self.log.mark(self.log.term(), sender)
-        self.send("let", sender, ())
+        self.mail("let", sender, ())
 
     def take_have(self, sender, told):
         """Notes, as the leader, up to where a house has all."""
@@ -147,7 +147,7 @@ class House:
     def take_records(self, what, sender, term, told):
         """Takes records, or pages, of its term's leader, and tells up to where it has them, or what it lacks."""
         if term < self.log.term():
-            self.send("lack", sender, (self.log.last(),))
+            self.mail("lack", sender, (self.log.last(),))
             return
         self.leads = False
         if what == "whole":
@@ -161,18 +161,18 @@ class House:
         if number > self.log.base() and self.log.term_of(number) != term:
             self.log.take_whole(number, term, content)
         self.learn(number)
-        self.send("have", sender, (number,))
+        self.mail("have", sender, (number,))
 
     def take_deals(self, sender, told):
         """Takes records, if it has the one ahead of them."""
         ahead, term, records, known = told
         if ahead > self.log.base() and self.log.term_of(ahead) != term:
-            self.send("lack", sender, (min(self.log.last(), ahead - 1),))
+            self.mail("lack", sender, (min(self.log.last(), ahead - 1),))
             return
         for record in records:
             self.take_deal(record)
         self.learn(known)
-        self.send("have", sender, (ahead + len(records),))
+        self.mail("have", sender, (ahead + len(records),))
 
     def take_deal(self, record):
         """Takes a record that it hasn't; one of its own that is otherwise goes, with all behind it."""
