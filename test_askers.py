@@ -187,8 +187,8 @@ class Refusing(unittest.TestCase):
         hall = begun()
         for text, word in (
             ("", "BadText"), ("put t", "BadText"), ("count from v", "BadName"), ("index t a", "BadName"),
-            ("table t k", "BadName"), ("put t 1", "BadRow"), ("put t 1 1", "Twice"), ("set t a = a * 999999", "TooGreat"),
-            ("done", "Within"), ("undo", "Within"), ("done now", "BadText"),
+            ("table t k", "BadName"), ("put t 1", "BadRow"), ("put t 1 1", "Twice"),
+            ("set t a = a * 999999", "TooGreat"), ("done", "Within"), ("undo", "Within"), ("done now", "BadText"),
         ):
             self.assertEqual(hall.ask(0, text), ("refused", word), text)
             self.assertIsNone(hall.underway(0))
@@ -226,7 +226,8 @@ class Clash(unittest.TestCase):
 
     def test_what_it_saw_was_written(self):
         for within, later, told in (
-            (["pick k from t where a = 10"], ["put t 9 10"], "clash"), (["pick k from t where a = 10"], ["put t 9 11"], "waits"),
+            (["pick k from t where a = 10"], ["put t 9 10"], "clash"),
+            (["pick k from t where a = 10"], ["put t 9 11"], "waits"),
             (["pick k from t where a = 10"], ["set t a = 11 where k = 1"], "clash"),
             (["count from t where k < 2"], ["strike t where k = 1"], "clash"),
             (["count from t where k < 2"], ["strike t where k = 2"], "waits"),
@@ -247,7 +248,8 @@ class Clash(unittest.TestCase):
         hall.ask(1, "put t 9 9")
         self.assertEqual(hall.ask(0, "done"), ("clash",))
         self.assertEqual(ask(hall, "begin", "count from t", "done"), ("waits", 6, 0))
-        self.assertEqual(hall.dealings(0)[-1], (["begin", "count from t", "done"], [("told", 0), ("told", 4), ("told", 0)], 6))
+        answers = [("told", 0), ("told", 4), ("told", 0)]
+        self.assertEqual(hall.dealings(0)[-1], (["begin", "count from t", "done"], answers, 6))
 
     def test_undo_does_not_clash(self):
         self.assertEqual(self.clash(["count from t"], ["put t 9 9"], "undo"), "told")
@@ -359,7 +361,8 @@ class Shown(unittest.TestCase):
         expected = [
             (["table t k a"], [("told", 0)], 0), (["index t a"], [("told", 0)], 1),
             (list(BEGUN[2:7]), [("told", 0), ("told", 1), ("told", 1), ("told", 1), ("told", 0)], 2),
-            (["table u m n"], [("told", 0)], 3), (list(BEGUN[8:]), [("told", 0), ("told", 1), ("told", 1), ("told", 0)], 4),
+            (["table u m n"], [("told", 0)], 3),
+            (list(BEGUN[8:]), [("told", 0), ("told", 1), ("told", 1), ("told", 0)], 4),
         ]
         self.assertEqual(hall.dealings(0), expected)
         ask(hall, "nonsense", "begin", "count from t", "undo", "done", "pick k from t first 1", asker=1)
@@ -382,8 +385,8 @@ class Shown(unittest.TestCase):
         self.assertEqual(hall.shown(1)[5], [0, 2])
         hall.turn(3, 0)
         ask(hall, "begin", "put t 1 1", "done", asker=3)
-        self.assertEqual(hall.shown(5), (["begin", "put t 1 1", "done"], [("told", 0), ("refused", "Twice"), ("told", 0)],
-                                         0, 1, 7, [0]))
+        answers = [("told", 0), ("refused", "Twice"), ("told", 0)]
+        self.assertEqual(hall.shown(5), (["begin", "put t 1 1", "done"], answers, 0, 1, 7, [0]))
         lose(hall)
         hall.takeover(1)
         lose(hall)
@@ -416,7 +419,8 @@ class Shown(unittest.TestCase):
         self.assertEqual(hall.dealings(0)[-1], (["pick k from t"], [("told", [(1,), (2,), (3,)])], 5))
         self.assertEqual(len(hall.dealings(0)), 6)
         self.assertEqual(hall.underway(1), (7, ["begin", "pick k from t"], [("t", {})]))
-        self.assertEqual(hall.paper(5), (RECORDS, (("pick k from t", ("told", [(1,), (2,), (3,)]), "from t"),), (("t", {}),), ()))
+        rows = (("pick k from t", ("told", [(1,), (2,), (3,)]), "from t"),)
+        self.assertEqual(hall.paper(5), (RECORDS, rows, (("t", {}),), ()))
         self.assertEqual(hall.shaped(0), ({"t": ("k", "a"), "u": ("m", "n")}, [("t", "a")]))
 
 
@@ -451,7 +455,8 @@ class Papers(unittest.TestCase):
         tables = (("t", ("k", "a")), ("u", ("m", "n")))
         rows = (("t", ((1, 10), (2, 20), (3, 10))), ("u", ((5, 10), (6, 11))))
         expected = [((), (), ())] * 2 + [(tables[:1], (), ()), (tables[:1], (("t", "a"),), ())]
-        expected += [(tables[:1], (("t", "a"),), rows[:1]), (tables, (("t", "a"),), rows[:1]), (tables, (("t", "a"),), rows)]
+        expected += [(tables[:1], (("t", "a"),), rows[:1]), (tables, (("t", "a"),), rows[:1])]
+        expected += [(tables, (("t", "a"),), rows)]
         for house in range(3):
             self.assertEqual([hall.content(house, number) for number in range(7)], expected)
             for number in (-1, 7, 100):
@@ -472,7 +477,8 @@ class Compared(unittest.TestCase):
             ("from t", 3, 3, 3), ("from t least 2", 1, 2, 2), ("from t by a least 10 most 10", 2, 2, 2),
         ])
         self.assertEqual(hall.compared(2, "sum a from t where 1 = 2"), [("not from t", 0, 0, 0)])
-        self.assertEqual(hall.compared(0, "count from t where k = 99"), [("from t", 3, 3, 3), ("from t least 99 most 99", 1, 0, 0)])
+        told = hall.compared(0, "count from t where k = 99")
+        self.assertEqual(told, [("from t", 3, 3, 3), ("from t least 99 most 99", 1, 0, 0)])
 
     def test_questions_by_two_tables(self):
         hall = begun()
@@ -492,18 +498,23 @@ class Compared(unittest.TestCase):
 
     def test_all_plans_and_their_costs(self):
         hall = begun()
-        for text in ("count from t and u where t.k = m or 1 = 1", "pick t.a from t and u where a = n and n = 10 and k = m - 4"):
+        for text in (
+            "count from t and u where t.k = m or 1 = 1", "pick t.a from t and u where a = n and n = 10 and k = m - 4",
+        ):
             tree = checked(read(text), *hall.shaped(0))
             plans = all_plans(tree[3], tree[4], *hall.shaped(0))
             told = hall.compared(0, text)
-            self.assertEqual([row[:2] for row in told], [(plan_text(plan), cost(plan, {"t": 3, "u": 2})) for plan in plans])
+            expected = [(plan_text(plan), cost(plan, {"t": 3, "u": 2})) for plan in plans]
+            self.assertEqual([row[:2] for row in told], expected)
 
     def test_another_statement_or_none(self):
         hall = begun()
         for text in ("put t 9 9", "set t a = 1", "strike t", "table v k", "index u n", "begin", "done", "undo"):
             with self.assertRaises(BadPlan):
                 hall.compared(0, text)
-        for text, refusal in (("", BadText), ("count from v", BadName), ("pick k from t and t", BadName), ("put t 9", BadRow)):
+        for text, refusal in (
+            ("", BadText), ("count from v", BadName), ("pick k from t and t", BadName), ("put t 9", BadRow),
+        ):
             with self.assertRaises(refusal):
                 hall.compared(0, text)
         with self.assertRaises(BadName):

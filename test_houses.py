@@ -50,8 +50,8 @@ class Halls(unittest.TestCase):
         hall = led(2, 3)
         ask(hall, "table t k")
         asks = {
-            "house": (hall.known, hall.shaped, hall.takeover, hall.beat, hall.checkpoint, hall.fall, hall.rise, hall.log,
-                      lambda house: hall.content(house, 0), lambda house: hall.turn(0, house),
+            "house": (hall.known, hall.shaped, hall.takeover, hall.beat, hall.checkpoint, hall.fall, hall.rise,
+                      hall.log, lambda house: hall.content(house, 0), lambda house: hall.turn(0, house),
                       lambda house: hall.arm(house, 1), lambda house: hall.compared(house, "count from t"),
                       lambda house: hall.past(house, "t", 1), lambda house: hall.rise(house, cut=1)),
             "asker": (hall.house_of, hall.dealings, hall.underway, lambda asker: hall.ask(asker, "begin"),
@@ -440,7 +440,7 @@ class Sending(unittest.TestCase):
         self.assertEqual((hall.letters(), hall.log(0)), ([("have", 0, 1, 3)], hall.log(1)))
 
     def test_lack_that_comes_twice_over(self):
-        """It goes back by one more each time, not below the first record; pages are sent where the log begins behind."""
+        """It goes back by one more each time, not below the first record; pages come where the log begins behind."""
         for base in (0, 1):
             hall = led()
             hall.beat(0)
@@ -586,7 +586,8 @@ class Pages(unittest.TestCase):
         hall.beat(0)
         settle(hall)
         self.assertEqual(hall.log(2), [(3, 4, *LEADER)])
-        self.assertEqual([hall.found(ticket) for ticket in range(6)], ["gone", "gone", "gone", "unknown", "unknown", "done"])
+        found = [hall.found(ticket) for ticket in range(6)]
+        self.assertEqual(found, ["gone", "gone", "gone", "unknown", "unknown", "done"])
 
     def test_pages_of_a_record_that_it_has_are_not_taken(self):
         hall = led()
@@ -876,7 +877,7 @@ class Falls(unittest.TestCase):
             self.assertEqual(hall.known(0), (1, 0, last, 0))
 
     def test_arm_amid_come(self):
-        for many, cut, known in ((0, 0, (1, 0, 1, 1)), (1, 0, (1, 0, 1, 1)), (1, 1, (1, 0, 2, 1)), (2, 0, (1, 0, 2, 1))):
+        for many, cut, last in ((0, 0, 1), (1, 0, 1), (1, 1, 2), (2, 0, 2)):
             hall = led()
             hall.beat(0)
             settle(hall)
@@ -892,7 +893,7 @@ class Falls(unittest.TestCase):
             self.assertEqual(hall.letters(), [])
             self.assertEqual(hall.known(1)[2], 2 if many == 2 else 1)
             hall.rise(1, cut=cut)
-            self.assertEqual(hall.known(1)[:3], known[:3])
+            self.assertEqual(hall.known(1)[:3], (1, 0, last))
             hall.beat(0)
             settle(hall)
             self.assertEqual(hall.log(1), hall.log(0))

@@ -49,8 +49,8 @@ PAPER = (PAPER[0], tuple((t, a, p.replace("first n", "first u.n")) for t, a, p i
 def spoilt(at, *, text=None, answer=None, plan=None):
     """The paper with one row otherwise."""
     rows = list(PAPER[1])
-    row = rows[at]
-    rows[at] = (row[0] if text is None else text, row[1] if answer is None else answer, row[2] if plan is None else plan)
+    told = zip((text, answer, plan), rows[at], strict=True)
+    rows[at] = tuple(old if new is None else new for new, old in told)
     return (PAPER[0], tuple(rows), *PAPER[2:])
 
 
@@ -84,7 +84,8 @@ class Following(unittest.TestCase):
         sights = [("t", {}), ("u", {})]
         for text, plans in (
             (COUNT, ("from t", "from t least 2", "from t by a least 10 most 10")),
-            (BOTH, ("from t, from u", "from t, from u by n first t.a", "from u, from t", "from u, from t by a first u.n")),
+            (BOTH, ("from t, from u", "from t, from u by n first t.a", "from u, from t")),
+            (BOTH, ("from u, from t by a first u.n",)),
         ):
             answer = ("told", 1 if text == COUNT else [(1, 7), (3, 7)])
             for plan in plans:
@@ -112,7 +113,9 @@ class Text(unittest.TestCase):
     def test_a_refusal_that_lacks(self):
         for at in (2, 5, 8, 9):
             self.assertEqual(followed(spoilt(at, answer=("told", 0)), CONTENT), ("text", at))
-        for text in ("undo now", "", "put t", "pick k, from t", "put t 9 9", "table t k", "index t a", "table w x", "begin"):
+        for text in (
+            "undo now", "", "put t", "pick k, from t", "put t 9 9", "table t k", "index t a", "table w x", "begin",
+        ):
             self.assertEqual(followed(spoilt(4, text=text), CONTENT), ("text", 4), text)
         self.assertEqual(followed(one_row("done", ("told", 0)), CONTENT), ("text", 0))
 
@@ -200,7 +203,8 @@ class Answer(unittest.TestCase):
 class Writes(unittest.TestCase):
     def test_other_writes(self):
         writes = PAPER[3]
-        for other in ((), writes[1:], writes[:-1], writes[::-1], writes + writes[:1], (("row", "t", 1, None),) + writes[1:]):
+        struck = (("row", "t", 1, None),)
+        for other in ((), writes[1:], writes[:-1], writes[::-1], writes + writes[:1], struck + writes[1:]):
             self.assertEqual(followed((*PAPER[:3], other), CONTENT), ("writes", len(PAPER[1])))
         self.assertEqual(followed(one_row("table v x", ("told", 0)), CONTENT), ("writes", 1))
         self.assertEqual(followed((MOMENT, (), (), writes), CONTENT), ("writes", 0))

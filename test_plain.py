@@ -70,7 +70,8 @@ class Dealings(unittest.TestCase):
     def test_undo_is_back_to_its_own_begin_alone(self):
         self.assertEqual(told("begin", "put t 1 1", "done", "begin", "put t 2 2", "undo", "pick k from t")[-1],
                          ("told", [(-1,), (1,), (3,), (7,)]))
-        self.assertEqual(told("put t 1 1", "begin", "undo", "begin", "strike t", "undo", "count from t")[-1], ("told", 4))
+        twice = told("put t 1 1", "begin", "undo", "begin", "strike t", "undo", "count from t")
+        self.assertEqual(twice[-1], ("told", 4))
 
     def test_out_of_turn(self):
         self.assertEqual(told("done", "undo"), [("refused", "Within")] * 2)
@@ -85,8 +86,9 @@ class Refusing(unittest.TestCase):
     def test_each_word(self):
         for text, word in (
             ("", "BadText"), ("put t 01 2", "BadText"), ("table from k", "BadText"), ("begin now", "BadText"),
-            ("count from v", "BadName"), ("table t a", "BadName"), ("index t k", "BadName"), ("put v 1", "BadName"), ("set u m = 1", "BadName"),
-            ("put t 1", "BadRow"), ("put u 1 2", "BadRow"), ("put t 3 1", "Twice"), ("put u 5", "Twice"),
+            ("count from v", "BadName"), ("table t a", "BadName"), ("index t k", "BadName"), ("put v 1", "BadName"),
+            ("set u m = 1", "BadName"), ("put t 1", "BadRow"), ("put u 1 2", "BadRow"),
+            ("put t 3 1", "Twice"), ("put u 5", "Twice"),
             ("set t a = 999999 + k where k = 7", "TooGreat"), ("set t a = 0 - 999999 + k", "TooGreat"),
             ("done", "Within"), ("undo", "Within"),
         ):

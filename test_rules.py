@@ -343,9 +343,9 @@ class Classes(unittest.TestCase):
     def test_methods_of_builtin_values(self):
         own = {part.name for tree in TREES.values() for node in ast.walk(tree) if isinstance(node, ast.ClassDef)
                for part in node.body if isinstance(part, ast.FunctionDef)}
-        known = ("append clear copy count endswith extend find get index insert isalnum isalpha isdigit islower isspace "
-                 "isupper items join ljust lower lstrip partition pop remove replace reverse rfind rjust rpartition "
-                 "rsplit rstrip setdefault split splitlines startswith strip update upper values zfill").split()
+        known = ("append clear copy count endswith extend find get index insert isalnum isalpha isdigit islower "
+                 "isspace isupper items join ljust lower lstrip partition pop remove replace reverse rfind rjust "
+                 "rpartition rsplit rstrip setdefault split splitlines startswith strip update upper values zfill").split()
         for stem, tree in TREES.items():
             for node in ast.walk(tree):
                 if isinstance(node, ast.Call) and isinstance(node.func, ast.Attribute):

@@ -314,8 +314,9 @@ class Clash(unittest.TestCase):
 
     def test_a_row_as_it_was_or_as_it_is_then(self):
         moved = self.made(("row", "t", 7, (7, 90)))
-        for bounds, number in (({"a": (10, 10)}, 4), ({"a": (90, 90)}, 4), ({"a": (11, 89)}, None), ({"a": (89, None)}, 4),
-                               ({"a": (None, 9)}, None), ({"a": (None, 10)}, 4), ({"k": (7, 7), "a": (11, 89)}, None),
+        for bounds, number in (({"a": (10, 10)}, 4), ({"a": (90, 90)}, 4), ({"a": (11, 89)}, None),
+                               ({"a": (89, None)}, 4), ({"a": (None, 9)}, None), ({"a": (None, 10)}, 4),
+                               ({"k": (7, 7), "a": (11, 89)}, None),
                                ({"k": (7, 8), "a": (90, 91)}, 4), ({"k": (8, 8), "a": (90, 91)}, None),
                                ({}, 4), (None, None)):
             self.assertEqual(self.clash(3, ("t", bounds), made=moved), number, bounds)
@@ -331,7 +332,8 @@ class Clash(unittest.TestCase):
         self.assertIsNone(self.clash(3, ("t", {"k": (4, 6), "a": (2, 9)}), made=struck))
 
     def test_the_least_of_several(self):
-        made = self.made(("row", "t", 7, (7, 50)), ("row", "t", 5, (5, 50)), ("row", "t", 7, None), ("row", "t", 9, (9, 0)))
+        made = self.made(("row", "t", 7, (7, 50)), ("row", "t", 5, (5, 50)), ("row", "t", 7, None),
+                         ("row", "t", 9, (9, 0)))
         self.assertEqual(self.clash(3, ("t", {"k": (9, 9)}), ("t", {"k": (5, 5)}), made=made), 5)
         self.assertEqual(self.clash(4, ("t", {"k": (7, 9)}), made=made), 6)
         self.assertEqual(self.clash(6, ("t", {}), made=made), 7)
