@@ -18,8 +18,8 @@ ROWS = (
 WRONG = (
     "", " ", "ask", "ask 0", "ask 0 ", "ask  0 x", "ask x y", "ask 00 x", "ask 1000 x", "ask -1 x", " ask 0 x",
     "Ask 0 x", "come", "come 0 0", "come  0", "come 0 ", " come 0", "come 01", "come 1000", "come -1", "come +1",
-    "come x", "lose", "takeover", "takeover 1 2", "beat", "checkpoint", "fall a", "found", "known 0 1", "log", "dealings", "shown",
-    "rise", "rise 1", "rise 1 2 3", "rise 1  2", "rise 1 02", "arm 1", "arm 1 -1", "turn 1", "turn x 1", "letters 0",
+    "come x", "lose", "takeover", "takeover 1 2", "beat", "checkpoint", "fall a", "found", "known 0 1", "log",
+    "dealings", "shown", "rise", "rise 1", "rise 1 2 3", "rise 1  2", "rise 1 02", "arm 1", "arm 1 -1", "turn 1", "turn x 1", "letters 0",
     "letters ", "leaders 1", "house 1", "paper 0", "content 0 1", "askx 0 y", "comes 0", "0", "come\t0", "letters,",
 )
 
@@ -74,8 +74,8 @@ class Playing(unittest.TestCase):
         ("found 0", "done"),
         ("ask 0 begin", ("told", 0)), ("ask 0 nonsense", ("refused", "BadText")), ("ask 0 put t 1 2", ("told", 1)),
         ("ask 1 put t 1 3", ("waits", 1, 1)), ("ask 0 done", ("clash",)), ("turn 2 1", None),
-        ("ask 2 begin", ("away",)), ("arm 0 1", None), ("ask 1 pick k, a from t", ("waits", 2, [(1, 3)])), ("fall 0", False),
-        ("rise 0 1", True),
+        ("ask 2 begin", ("away",)), ("arm 0 1", None), ("ask 1 pick k, a from t", ("waits", 2, [(1, 3)])),
+        ("fall 0", False), ("rise 0 1", True),
         ("rise 0 1", False), ("log 0", [(1, 1, -1, -1), (1, 2, 0, 0), (1, 3, 1, 1), (1, 4, 1, 2)]),
         ("checkpoint 0", True), ("known 0", (1, 0, 4, 0)), ("fall 1", True), ("checkpoint 1", False), ("beat 1", False),
         ("dealings 0", [(["table t k a"], [("told", 0)], 0)]),

@@ -345,7 +345,8 @@ class Classes(unittest.TestCase):
                for part in node.body if isinstance(part, ast.FunctionDef)}
         known = ("append clear copy count endswith extend find get index insert isalnum isalpha isdigit islower "
                  "isspace isupper items join ljust lower lstrip partition pop remove replace reverse rfind rjust "
-                 "rpartition rsplit rstrip setdefault split splitlines startswith strip update upper values zfill").split()
+                 "rpartition rsplit rstrip setdefault split splitlines startswith strip update upper values "
+                 "zfill").split()
         for stem, tree in TREES.items():
             for node in ast.walk(tree):
                 if isinstance(node, ast.Call) and isinstance(node.func, ast.Attribute):

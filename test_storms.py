@@ -15,8 +15,8 @@ DAY = (
     "takeover 0", "come 0", "come 0", "come 0", "come 0", "come 0", "come 0", "ask 0 table t k a", "come 0", "come 0",
     "come 0", "ask 0 begin", "ask 0 put t 1 10", "ask 0 put t 2 20", "ask 0 done", "come 0", "come 0", "come 0",
     "come 0", "come 0", "checkpoint 0", "ask 0 set t a = a + 1", "come 0", "come 0", "beat 0", "come 0", "come 0",
-    "come 0", "come 0", "checkpoint 0", "ask 0 sum a from t", "checkpoint 1", "come 0", "come 0", "come 0", "come 0", "come 0",
-    "come 0", "come 0", "come 0",
+    "come 0", "come 0", "checkpoint 0", "ask 0 sum a from t", "checkpoint 1", "come 0", "come 0", "come 0", "come 0",
+    "come 0", "come 0", "come 0", "come 0",
 )
 
 
