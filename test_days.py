@@ -19,8 +19,9 @@ WRONG = (
     "", " ", "ask", "ask 0", "ask 0 ", "ask  0 x", "ask x y", "ask 00 x", "ask 1000 x", "ask -1 x", " ask 0 x",
     "Ask 0 x", "come", "come 0 0", "come  0", "come 0 ", " come 0", "come 01", "come 1000", "come -1", "come +1",
     "come x", "lose", "takeover", "takeover 1 2", "beat", "checkpoint", "fall a", "found", "known 0 1", "log",
-    "dealings", "shown", "rise", "rise 1", "rise 1 2 3", "rise 1  2", "rise 1 02", "arm 1", "arm 1 -1", "turn 1", "turn x 1",
-    "letters 0", "letters ", "leaders 1", "house 1", "paper 0", "content 0 1", "askx 0 y", "comes 0", "0", "come\t0", "letters,",
+    "dealings", "shown", "rise", "rise 1", "rise 1 2 3", "rise 1  2", "rise 1 02", "arm 1", "arm 1 -1", "turn 1",
+    "turn x 1", "letters 0", "letters ", "leaders 1", "house 1", "paper 0", "content 0 1", "askx 0 y", "comes 0",
+    "0", "come\t0", "letters,",
 )
 
 
