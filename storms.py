@@ -20,6 +20,8 @@ class Storm:
         self.settled = {}
         self.agreed = {}
         self.led = {}
+        # In which term a house asked to lead last, since it rose.
+        self.sought = {}
         self.bases = {}
         self.wrong = []
 
@@ -38,6 +40,10 @@ class Storm:
         else:
             told = getattr(hall, word)(*numbers)
         self.told.append(told)
+        if word == "takeover":
+            self.sought[numbers[0]] = hall.known(numbers[0])[0]
+        elif word == "rise" and told:
+            self.sought[numbers[0]] = None
         self.look()
         return told
 
@@ -147,8 +153,9 @@ class Storm:
                 if record[1] <= known and self.agreed.setdefault(record[1], record) != record:
                     self.wrong.append(("agreed", house, record))
         for house in hall.leaders():
-            if self.led.setdefault(hall.known(house)[0], house) != house:
-                self.wrong.append(("leaders", house))
+            term = hall.known(house)[0]
+            if self.led.setdefault(term, house) != house or self.sought.get(house) != term:
+                self.wrong.append(("leaders", house, term))
 
     def histories(self):
         return [self.hall.dealings(asker) for asker in range(self.askers)]

@@ -71,6 +71,38 @@ class Away(unittest.TestCase):
         self.assertIsNone(hall.underway(0))
         self.assertEqual(ask(hall, "begin", "count from t"), ("told", 3))
 
+    def test_a_house_that_rose_with_lets_under_way(self):
+        """Its disk is in the dealing's term yet, and the letters that let it lead there come late."""
+        for houses in (3, 4, 5):
+            for last in ("done", "undo", "begin", "put t 2", "nonsense"):
+                hall = Hall(houses=houses)
+                hall.takeover(0)
+                come(hall, "ask")
+                for _ in range(houses // 2):
+                    hall.come()
+                ask(hall, "table t k", "begin", "put t 1")
+                hall.fall(0)
+                hall.rise(0)
+                self.assertEqual(come(hall, "let"), houses - 1 - houses // 2)
+                self.assertEqual((hall.leaders(), hall.known(0)[0]), ([], 1))
+                self.assertEqual(hall.ask(0, last), ("away",))
+                self.assertIsNone(hall.underway(0))
+                self.assertEqual((hall.count_tickets(), hall.log(0)), (1, [(1, 1, -1, -1), (1, 2, 0, 0)]))
+
+    def test_a_house_that_rose_and_leads_anew(self):
+        """It leads in a later term, whether or not one asked amid that."""
+        for amid in (False, True):
+            hall = begun()
+            ask(hall, "begin", "put t 9 9")
+            hall.fall(0)
+            hall.rise(0)
+            if amid:
+                self.assertEqual(hall.ask(0, "put t 8 8"), ("away",))
+            take_over(hall, 0)
+            self.assertEqual((hall.leaders(), hall.known(0)[0]), ([0], 2))
+            self.assertEqual(hall.ask(0, "done"), ("refused", "Within") if amid else ("away",))
+            self.assertEqual(hall.ask(0, "count from t"), ("waits", 5, 3))
+
     def test_one_that_takes_itself_for_the_leader(self):
         hall = begun()
         hall.takeover(2)
@@ -151,35 +183,6 @@ class Telling(unittest.TestCase):
         settle(hall)
         hall.checkpoint(0)
         self.assertEqual(hall.ask(0, "done"), ("waits", 11, 0))
-
-
-    def test_a_dealing_goes_on_where_its_house_leads_again_in_its_term(self):
-        """Its house fell and rose, a late let lets it lead again; its log has pages behind the dealing's moment."""
-        for last, told in (("count from t", ("clash",)), ("count from u", ("waits", 4, 0))):
-            hall = Hall()
-            hall.takeover(0)
-            come(hall, "ask")
-            hall.come()
-            self.come_but_lets(hall)
-            self.assertEqual(hall.leaders(), [0])
-            ask(hall, "table t k", "table u k", "put t 1", "begin", last)
-            hall.ask(1, "put t 2")
-            self.come_but_lets(hall)
-            hall.checkpoint(0)
-            self.assertEqual(hall.known(0), (1, 5, 5, 5))
-            hall.fall(0)
-            hall.rise(0)
-            self.assertEqual(hall.letters(), [("let", 2, 0, 1)])
-            hall.come()
-            self.assertEqual((hall.leaders(), hall.known(0)), ([0], (1, 5, 6, 5)))
-            self.assertEqual(hall.ask(0, "pick k from t where 1 = 2"), ("told", []))
-            self.assertEqual(hall.ask(0, "done"), told)
-            self.assertEqual(hall.ask(0, "count from t")[2], 2)
-
-    def come_but_lets(self, hall):
-        """Lets all come but lets."""
-        while come(hall, "send") + come(hall, "have"):
-            pass
 
 
 class Refusing(unittest.TestCase):

@@ -83,12 +83,27 @@ class Playing(unittest.TestCase):
         ("shown 2", (["pick k, a from t"], [("told", [(1, 3)])], 0, 1, 4, [0])), ("come 0", True),
     )
 
-    def test_what_the_methods_tell(self):
-        told, hall = played("\n".join(row for row, _ in self.DAY))
-        for (row, expected), answer in zip(self.DAY, told, strict=True):
+    def hall_of(self, day):
+        """The hall that does a day, all of which tells what it must."""
+        told, hall = played("\n".join(row for row, _ in day))
+        for (row, expected), answer in zip(day, told, strict=True):
             self.assertEqual(answer, expected, row)
+        return hall
+
+    def test_what_the_methods_tell(self):
+        hall = self.hall_of(self.DAY)
         self.assertIsInstance(hall, Hall)
         self.assertEqual((hall.count_tickets(), hall.house_of(2), hall.leaders()), (3, 1, []))
+
+    def test_a_let_that_comes_behind_a_rise(self):
+        hall = self.hall_of((
+            ("takeover 1", True), ("come 1", True), ("fall 1", True), ("rise 1 0", True), ("come 1", True),
+            ("leaders", []), ("log 1", []), ("known 1", (1, 0, 0, 0)), ("letters", [("ask", 1, 0, 1)]),
+            ("takeover 1", True), ("come 1", True), ("come 1", True), ("come 1", True), ("leaders", [1]),
+            ("log 1", [(2, 1, -1, -1)]),
+            ("letters", [("ask", 1, 0, 1), ("let", 2, 1, 2), ("send", 1, 0, 2), ("send", 1, 2, 2)]),
+        ))
+        self.assertEqual(hall.known(1), (2, 0, 1, 0))
 
     def test_rise_s_second_number_is_cut(self):
         day = "arm 0 1\ntakeover 0\nrise 0 {}\nknown 0"

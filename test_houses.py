@@ -959,21 +959,78 @@ class Falls(unittest.TestCase):
         settle(hall)
         self.assertEqual((hall.leaders(), hall.known(0)), ([0], (3, 0, 5, 5)))
 
-    def test_a_let_that_comes_behind_a_rise(self):
-        """It lets itself by its disk, and more than half let it: it leads again, with a record more."""
+    def risen(self, houses, lets):
+        """House 1 asked, was let by so many, fell and rose; all else that lets it is under way."""
+        hall = Hall(houses=houses)
+        hall.takeover(1)
+        come(hall, "ask")
+        for _ in range(lets):
+            hall.come()
+        lose(hall, "send")
+        hall.fall(1)
+        hall.rise(1)
+        self.assertEqual(hall.letters(), [("let", at, 1, 1) for at in range(houses) if at != 1][lets:])
+        return hall
+
+    def test_lets_that_come_behind_a_rise(self):
+        """Whether it led ahead of its fall or not, and however many come: it leads not, its log is as it was."""
+        for houses in range(2, 6):
+            for lets in range(houses):
+                hall = self.risen(houses, lets)
+                log = [(1, 1, *LEADER)] if lets >= houses // 2 else []
+                for left in range(houses - lets):
+                    self.assertEqual((hall.leaders(), hall.log(1)), ([], log), (houses, lets))
+                    self.assertEqual(hall.known(1), (1, 0, len(log), 0))
+                    self.assertIs(hall.beat(1), False)
+                    self.assertEqual(len(hall.letters()), houses - lets - left - 1)
+                    hall.come()
+
+    def test_it_leads_behind_a_rise_when_it_asks_anew(self):
+        for houses in range(2, 6):
+            for lets in range(houses):
+                hall = self.risen(houses, lets)
+                log = hall.log(1)
+                self.assertIs(hall.takeover(1), True)
+                settle(hall)
+                self.assertEqual((hall.leaders(), hall.log(1)), ([1], log + [(2, len(log) + 1, *LEADER)]))
+                self.assertEqual([hall.log(house) for house in range(houses)], [hall.log(1)] * houses)
+
+    def test_a_late_let_is_not_counted_among_those_asked_for_anew(self):
+        hall = self.risen(5, 0)
+        hall.takeover(1)
+        come(hall, "let", 0)
+        come(hall, "let", 2)
+        self.assertEqual((hall.leaders(), hall.known(1)), ([], (2, 0, 0, 0)))
+
+    def test_a_house_alone_leads_not_behind_a_rise(self):
+        hall = led(1)
+        ask(hall, "table t k")
+        hall.fall(0)
+        hall.rise(0)
+        hall.beat(0)
+        self.assertEqual((hall.leaders(), hall.log(0)), ([], [(1, 1, *LEADER), (1, 2, 0, 0)]))
+        self.assertEqual((hall.ask(0, "begin"), hall.known(0)), (("away",), (1, 0, 2, 0)))
+        hall.takeover(0)
+        self.assertEqual((hall.leaders(), hall.known(0)), ([0], (2, 0, 3, 3)))
+
+    def test_lets_behind_a_rise_of_one_whose_power_went_amid_asking(self):
+        """Its disk tells that it lets itself, but no ask went under way; elder lets come."""
         hall = Hall()
         hall.takeover(0)
         come(hall, "ask")
-        hall.come()
-        self.assertEqual(hall.leaders(), [0])
-        lose(hall, "send")
-        hall.fall(0)
-        hall.rise(0)
-        self.assertEqual(hall.leaders(), [])
-        come(hall, "let")
-        self.assertEqual((hall.leaders(), hall.log(0)), ([0], [(1, 1, *LEADER), (1, 2, *LEADER)]))
+        hall.arm(0, 1)
+        hall.takeover(0)
+        hall.rise(0, cut=1)
+        self.assertEqual((hall.known(0), hall.letters()), ((2, 0, 0, 0), [("let", 1, 0, 1), ("let", 2, 0, 1)]))
         settle(hall)
-        self.assertEqual([hall.log(house) for house in range(3)], [hall.log(0)] * 3)
+        self.assertEqual((hall.leaders(), hall.log(0)), ([], []))
+        hall.arm(0, 1)
+        hall.takeover(0)
+        hall.rise(0)
+        self.assertEqual(hall.known(0)[0], 2)
+        hall.takeover(0)
+        settle(hall)
+        self.assertEqual((hall.leaders(), hall.known(0)), ([0], (3, 0, 1, 1)))
 
 
 class Stores(unittest.TestCase):

@@ -22,14 +22,13 @@ class House:
         self.up = True
         self.leads = False
         self.known = 0
-        # Who let it lead in its term.
+        # Who let it lead in its term, itself first; none of this lasts through a fall.
         self.lets = {}
         # Of each other house, while it leads: from which number on it lacks records, up to which it surely has them.
         self.lacks = {}
         self.haves = {}
-        # The store that dealings are opened of, and the term in which it led last.
+        # The store that dealings are opened of, while it leads.
         self.store = None
-        self.led = None
 
     def others(self):
         """The numbers of all other houses."""
@@ -61,18 +60,8 @@ class House:
         for number in self.others():
             self.lacks[number] = self.log.last() + 1
             self.haves[number] = 0
-        self.fill_store()
+        self.store = self.log.store()
         self.append_deal(NOBODY, NOBODY, ())
-
-    def fill_store(self):
-        """Lets the store be what the log tells."""
-        term = self.log.term()
-        # Dealings of a term in which it led already may be open in the store that it had then.
-        if self.led != term:
-            self.store = self.log.store()
-            self.led = term
-        for record in self.log.records(self.store.newest + 1):
-            self.store.take(record[2], record[5])
 
     def append_deal(self, asker, ticket, writes):
         """Appends a record as the leader, and sends it to all others."""
@@ -117,7 +106,7 @@ class House:
         if what == "ask":
             self.take_ask(sender, told)
         elif what == "let":
-            self.let_by(sender)
+            self.take_let(sender)
         elif self.leads and what == "have":
             self.take_have(sender, told)
         elif self.leads:
@@ -131,6 +120,12 @@ class House:
         if self.log.vote() is None:
             self.log.mark(self.log.term(), sender)
         self.mail("let", sender, ())
+
+    def take_let(self, sender):
+        """Counts a let, if it asked for that."""
+        # It lets itself when it asks; one that rose hasn't asked yet, though lets of its term may still come.
+        if self.number in self.lets:
+            self.let_by(sender)
 
     def take_have(self, sender, told):
         """Notes, as the leader, up to where a house has all."""
@@ -215,5 +210,4 @@ class House:
         self.log = Log(self.disk)
         self.up = True
         self.known = self.log.base()
-        # It lets itself in its term, if its disk says so; who else did it doesn't know any more.
-        self.lets = {self.number: True} if self.log.vote() == self.number else {}
+        self.lets = {}
